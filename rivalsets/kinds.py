@@ -17,3 +17,8 @@ def is_number_below(thing, many):
 def is_tuple_of(thing, many):
     """Whether a thing is a tuple of so many things."""
     return isinstance(thing, tuple) and len(thing) == many
+
+
+def is_headed(thing, word, many):
+    """Whether a thing is a tuple of so many things, the first of them this word."""
+    return is_tuple_of(thing, many) and thing[0] == word

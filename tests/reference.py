@@ -109,3 +109,87 @@ def refusal(kind, asked, *told):
             raise AssertionError(f"{type(refused)} is not just {kind}")
         return refused
     raise AssertionError(f"not refused, but {answer!r}")
+
+
+def all_deeds(n):
+    return ([("put", some) for some in subsets(n)] + [("without", place) for place in range(n)]
+            + [("keep", place) for place in range(n)])
+
+
+def became(family, deed):
+    n, members = family
+    word, what = deed
+    if word == "put":
+        return as_family(n, masks_of(family) + [bits(what)])
+    if word == "without":
+        return as_family(n, [mask for mask in masks_of(family) if not mask >> what & 1])
+    return as_family(n, [mask & ~(1 << what) for mask in masks_of(family)])
+
+
+def is_index(thing, members):
+    return type(thing) is int and 0 <= thing < len(members)
+
+
+def is_index_row(thing, many, members):
+    return type(thing) is tuple and len(thing) == many and all(is_index(number, members) for number in thing)
+
+
+def word_of(thing):
+    """A tuple's first thing and how many there are; None of all else."""
+    return (thing[0], len(thing)) if type(thing) is tuple and thing and type(thing[0]) is str else None
+
+
+def entry_fits(one, other, deed, own, entry):
+    word = word_of(entry)
+    if deed[0] == "keep":
+        return word in [("stays", 1), ("goes", 1)]
+    if deed[0] == "without":
+        return (word == ("less", 1) or word == ("stays", 2) and is_index_row(entry[1], len(own), one[1])
+                or word == ("goes", 2) and is_index(entry[1], other[1]))
+    if word != ("grows", 2):
+        return word == ("stays", 1)
+    if type(entry[1]) is not tuple or len(entry[1]) != len(deed[1]):
+        return False
+    return all(word_of(row) == ("new", 2) and is_index_row(row[1], len(own), one[1])
+               or word_of(row) == ("has", 2) and is_index(row[1], other[1]) for row in entry[1])
+
+
+def entry_is_so(one, other, deed, own, entry):
+    own = set(own)
+    first = [set(member) for member in one[1]]
+    second = [set(member) for member in other[1]]
+    if deed[0] == "keep":
+        return (deed[1] in own) is (entry[0] == "goes")
+    if deed[0] == "without":
+        place = deed[1]
+        if entry[0] == "less":
+            return place in own
+        if entry[0] == "stays":
+            return place not in own and all(place not in first[number] and first[number] & own == {needed}
+                                            for needed, number in zip(sorted(own), entry[1]))
+        return place not in own and place in second[entry[1]] and second[entry[1]] - {place} <= own
+    if entry[0] == "stays":
+        return bool(own & set(deed[1]))
+    if own & set(deed[1]):
+        return False
+    for place, row in zip(deed[1], entry[1]):
+        if row[0] == "new":
+            if any(first[number] & (own | {place}) != {needed} for needed, number in zip(sorted(own), row[1])):
+                return False
+        elif place not in second[row[1]] or not second[row[1]] <= own | {place}:
+            return False
+    return True
+
+
+def judged(one, other, deed, thing):
+    """True, or the word and the number that NoSteps is due with."""
+    if deed[0] == "put" and word_of(thing) == ("held", 2) and is_index(thing[1], one[1]):
+        return True if set(one[1][thing[1]]) <= set(deed[1]) else ("wrong", -1)
+    if type(thing) is not tuple or len(thing) != len(other[1]):
+        return "shape", -1
+    for number, entry in enumerate(thing):
+        if not entry_fits(one, other, deed, other[1][number], entry):
+            return "shape", number
+        if not entry_is_so(one, other, deed, other[1][number], entry):
+            return "wrong", number
+    return True

@@ -21,7 +21,7 @@ def shifted(family, by):
 def beside(one, other):
     """The least ones of all members of both, the other's places behind the one's."""
     n = places_bounded(one[0] + other[0])
-    return least_ones(n, [*one[1], *shifted(other, one[0])])
+    return least_ones(n, list(one[1]) + shifted(other, one[0]))
 
 
 def crossed(one, other):

@@ -23,7 +23,7 @@ def becomes(family, deed):
     """What a family becomes by a DEED."""
     word, what = deed
     if word == "put":
-        return least_ones(family[0], [*family[1], what])
+        return least_ones(family[0], list(family[1]) + [what])
     if word == "without":
         return without_place(family, what)
     return kept_at(family, what)

@@ -6,7 +6,15 @@ from rivalsets.sets import all_sets, do_meet, taken_from
 
 def is_meeter(family, some):
     """Whether a SET meets each member."""
-    return all(do_meet(member, some) for member in family[1])
+    return first_unmet(family, some) is None
+
+
+def first_unmet(family, some):
+    """The number of the first member that a SET doesn't meet; None where it meets each."""
+    for at, member in enumerate(family[1]):
+        if not do_meet(member, some):
+            return at
+    return None
 
 
 def least_within(family, some):

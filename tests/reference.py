@@ -111,6 +111,42 @@ def refusal(kind, asked, *told):
     raise AssertionError(f"not refused, but {answer!r}")
 
 
+def said(kind, asked, *told):
+    """What a checker says: True, or the word and the number of its refusal, which is of just this kind."""
+    try:
+        answer = asked(*told)
+    except kind as refused:
+        assert type(refused) is kind
+        assert type(refused.word) is str and type(refused.number) is int
+        return refused.word, refused.number
+    assert answer is True
+    return True
+
+
+def turned(thing, words):
+    """What a thing may be turned into at one spot of it: other kinds, words, numbers and lengths."""
+    told = [None, [thing], (thing,), nested(30), 10 ** 399]
+    if type(thing) is int:
+        told += [thing - 1, thing + 1, thing + 2, -1, thing == 1, str(thing)]
+    elif type(thing) is str:
+        told += [word for word in words if word != thing]
+    elif type(thing) is tuple:
+        told += [list(thing), thing[1:], thing[:-1], thing + thing[:1], thing + (0,), thing[::-1], ()]
+        for at in range(len(thing)):
+            told += [thing[:at] + (part,) + thing[at + 1:] for part in turned(thing[at], words)]
+    return told
+
+
+def turned_at_chance(source, thing, words):
+    """One thing that a thing may be turned into, the spot in it found by going down at chance."""
+    if type(thing) is tuple and thing and source.randrange(5):
+        at = source.randrange(len(thing))
+        return thing[:at] + (turned_at_chance(source, thing[at], words),) + thing[at + 1:]
+    if type(thing) is tuple:
+        return source.choice([list(thing), thing[1:], thing[:-1], thing + (0,), thing[::-1], (), None, nested(30)])
+    return source.choice(turned(thing, words))
+
+
 def all_deeds(n):
     return ([("put", some) for some in subsets(n)] + [("without", place) for place in range(n)]
             + [("keep", place) for place in range(n)])
@@ -193,3 +229,97 @@ def judged(one, other, deed, thing):
         if not entry_is_so(one, other, deed, other[1][number], entry):
             return "wrong", number
     return True
+
+
+def dual_judged(one, other, thing):
+    """True, or the word and the number that NoPaper is due with for a DUAL paper."""
+    first, second = masks_of(one), masks_of(other)
+    for number, mask in enumerate(first):
+        if not all(mask & low for low in second):
+            return "apart", number
+    return dual_walk(one[0], first, second, thing, (0, 0), 0)[0]
+
+
+def dual_walk(n, first, second, part, masks, number):
+    """What is due of a part and all in it, and the number behind them."""
+    taken, out = masks
+    if word_of(part) == ("one", 2) and is_index(part[1], first):
+        return (True if first[part[1]] | taken == taken else ("within", number)), number + 1
+    if word_of(part) == ("other", 2) and is_index(part[1], second):
+        return (True if second[part[1]] | out == out else ("within", number)), number + 1
+    if word_of(part) != ("split", 4) or not is_index(part[1], range(n)):
+        return ("shape", number), number + 1
+    bit = 1 << part[1]
+    if (taken | out) & bit:
+        return ("place", number), number + 1
+    due, number = dual_walk(n, first, second, part[2], (taken | bit, out), number + 1)
+    return dual_walk(n, first, second, part[3], (taken, out | bit), number) if due is True else (due, number)
+
+
+def chance_dual(source, one, other, taken=0, out=0):
+    """A DUAL tree for two that are each other's, with splits in any order and perhaps later ends than could be."""
+    ends = [("one", k) for k, mask in enumerate(masks_of(one)) if mask | taken == taken]
+    ends += [("other", k) for k, mask in enumerate(masks_of(other)) if mask | out == out]
+    free = [place for place in range(one[0]) if not (taken | out) >> place & 1]
+    if ends and (not free or source.randrange(4)):
+        return source.choice(ends)
+    place = source.choice(free)
+    return ("split", place, chance_dual(source, one, other, taken | 1 << place, out),
+            chance_dual(source, one, other, taken, out | 1 << place))
+
+
+def parts_two(one, other, mask):
+    every = (1 << one[0]) - 1
+    return holds(one, mask) is holds(other, every & ~mask)
+
+
+def price(weights, mask):
+    return sum(weight for place, weight in enumerate(weights) if mask >> place & 1)
+
+
+def least_price(family, weights):
+    """The least cost of a MEETER, None of WHOLE."""
+    return min((price(weights, mask) for mask in range(1 << family[0]) if meets_all(family, mask)), default=None)
+
+
+def chance_weights(source, n, most=99):
+    return tuple(source.choice([0, 1, 1, 2, 3, most, source.randrange(most + 1)]) for place in range(n))
+
+
+def cases_judged(family, weights, bound, thing):
+    """True, or the word and the number that NoPaper is due with for CASES."""
+    return cases_walk(family, weights, bound, thing, (0, 0), 0)[0]
+
+
+def cases_walk(family, weights, bound, part, masks, number):
+    """What is due of a part and all in it, and the number behind them."""
+    taken, out = masks
+    if word_of(part) == ("enough", 1):
+        return (True if price(weights, taken) >= bound else ("cheap", number)), number + 1
+    if word_of(part) != ("member", 3) or not is_index(part[1], family[1]) or type(part[2]) is not tuple:
+        return ("shape", number), number + 1
+    member = bits(family[1][part[1]])
+    if member & taken:
+        return ("met", number), number + 1
+    free = places(member & ~out)
+    if len(free) != len(part[2]):
+        return ("rows", number), number + 1
+    number += 1
+    for place, row in zip(free, part[2]):
+        due, number = cases_walk(family, weights, bound, row, (taken | 1 << place, out), number)
+        if due is not True:
+            return due, number
+        out |= 1 << place
+    return True, number
+
+
+def chance_cases(source, family, weights, bound, taken=0, out=0):
+    """CASES for a BOUND that no MEETER is cheaper than, with any members, and perhaps later ends than could be."""
+    unmet = [k for k, mask in enumerate(masks_of(family)) if not mask & taken]
+    if price(weights, taken) >= bound and (not unmet or source.randrange(3)):
+        return ("enough",)
+    number, rows = source.choice(unmet), []
+    for place in places(bits(family[1][number]) & ~out):
+        rows.append(chance_cases(source, family, weights, bound, taken | 1 << place, out))
+        out |= 1 << place
+    return "member", number, tuple(rows)

@@ -8,34 +8,19 @@ from rivalsets.errors import NoSteps
 from rivalsets.families import does_hold, is_family
 from rivalsets.stepchecker import becomes, is_deed, lets_steps
 from rivalsets.stepping import steps_for
-from tests.reference import (all_deeds, became, every_family, judged, large_families, layer, nested, odd_things,
-                             other_of, small_families, subsets)
+from tests.reference import (all_deeds, became, every_family, judged, large_families, layer, odd_things, other_of, said,
+                             small_families, subsets, turned)
 
 WORDS = ["stays", "grows", "less", "goes", "new", "has", "held", "put", ""]
 
 
 def answer(one, other, deed, thing):
     """True, or the word and number of the refusal, of just its class."""
-    try:
-        return lets_steps(one, other, deed, thing)
-    except NoSteps as refused:
-        assert type(refused) is NoSteps
-        assert type(refused.word) is str and type(refused.number) is int
-        return refused.word, refused.number
+    return said(NoSteps, lets_steps, one, other, deed, thing)
 
 
-def turned(thing):
-    """What a thing may be turned into at one spot of it: other kinds, words, numbers and lengths."""
-    told = [None, [thing], (thing,), nested(30), 10 ** 399]
-    if type(thing) is int:
-        told += [thing - 1, thing + 1, thing + 2, -1, thing == 1, str(thing)]
-    elif type(thing) is str:
-        told += [word for word in WORDS if word != thing]
-    elif type(thing) is tuple:
-        told += [list(thing), thing[1:], thing[:-1], thing + thing[:1], thing + (0,), thing[::-1], ()]
-        for at in range(len(thing)):
-            told += [thing[:at] + (part,) + thing[at + 1:] for part in turned(thing[at])]
-    return told
+def turned_steps(steps):
+    return turned(steps, WORDS)
 
 
 class IsDeed(unittest.TestCase):
@@ -239,7 +224,7 @@ class LetsSteps(unittest.TestCase):
             for deed in all_deeds(family[0]):
                 steps = steps_for(family, other, deed)
                 self.check(family, other, deed, steps, True)
-                for thing in turned(steps):
+                for thing in turned_steps(steps):
                     self.check_same(family, other, deed, thing)
 
     def test_two_spots_turned(self):
@@ -249,8 +234,8 @@ class LetsSteps(unittest.TestCase):
             for deed in source.sample(all_deeds(4), 4):
                 steps = steps_for(family, other, deed)
                 for count in range(20):
-                    thing = source.choice(turned(steps))
-                    thing = source.choice(turned(thing)) if type(thing) is tuple else thing
+                    thing = source.choice(turned_steps(steps))
+                    thing = source.choice(turned_steps(thing)) if type(thing) is tuple else thing
                     self.check_same(family, other, deed, thing)
 
     def test_families_that_are_not_each_others(self):
@@ -261,7 +246,7 @@ class LetsSteps(unittest.TestCase):
             deed = source.choice(all_deeds(n))
             for steps in (steps_for(third, other_of(third), deed), steps_for(one, other_of(one), deed)):
                 self.check_same(one, other, deed, steps)
-                for thing in source.sample(turned(steps), 5):
+                for thing in source.sample(turned_steps(steps), 5):
                     self.check_same(one, other, deed, thing)
 
     def test_all_entries_of_two_families(self):
@@ -298,5 +283,5 @@ class LetsSteps(unittest.TestCase):
             for deed in [("put", (0, 1, 2, 3)), ("put", (4, 5, 6)), ("put", ()), ("without", 7), ("keep", 7)]:
                 steps = steps_for(one, other, deed)
                 self.check(one, other, deed, steps, True)
-                for thing in source.sample(turned(steps), 60):
+                for thing in source.sample(turned_steps(steps), 60):
                     self.check_same(one, other, deed, thing)

@@ -14,6 +14,11 @@ def is_number_below(thing, many):
     return is_whole(thing) and 0 <= thing < many
 
 
+def is_number_from(thing, least):
+    """Whether a thing is a whole number that is no less."""
+    return is_whole(thing) and thing >= least
+
+
 def is_tuple_of(thing, many):
     """Whether a thing is a tuple of so many things."""
     return isinstance(thing, tuple) and len(thing) == many

@@ -1,7 +1,10 @@
 """What the tests compare with: the document's words by plain counting over bits, without the package."""
 
 import random
+from fractions import Fraction
+from functools import lru_cache
 from itertools import combinations
+from math import lcm
 
 
 def bits(some):
@@ -323,3 +326,142 @@ def chance_cases(source, family, weights, bound, taken=0, out=0):
         rows.append(chance_cases(source, family, weights, bound, taken | 1 << place, out))
         out |= 1 << place
     return "member", number, tuple(rows)
+
+
+def entries_judged(family, rows):
+    """None, or the number of the first thing that can't stand among the counts of a PACK."""
+    last = None
+    for number, entry in enumerate(rows):
+        if type(entry) is not tuple or len(entry) != 2 or type(entry[1]) is not int or entry[1] < 1:
+            return number
+        member = entry[0]
+        if type(member) is not tuple or any(type(place) is not int for place in member) or member not in family[1]:
+            return number
+        if last is not None and not last < member:
+            return number
+        last = member
+    return None
+
+
+def counts_judged(family, bounds, rows):
+    """True, or the word and the number that NoPaper is due with for the counts of members."""
+    number = entries_judged(family, rows)
+    if number is not None:
+        return "entry", number
+    for place, bound in enumerate(bounds):
+        if sum(count for member, count in rows if place in member) > bound:
+            return "place", place
+    return True
+
+
+def pack_fits(family, weights, thing):
+    return type(thing) is tuple and counts_judged(family, weights, thing) is True
+
+
+def all_packs(family, weights, number=0):
+    """All PACKs of members from this number on."""
+    if number == len(family[1]):
+        yield ()
+        return
+    member, count = family[1][number], 0
+    while all(weights[place] >= 0 for place in member):
+        for rest in all_packs(family, weights, number + 1):
+            yield ((member, count),) + rest if count else rest
+        count += 1
+        weights = tuple(weight - (place in member) for place, weight in enumerate(weights))
+
+
+def greatest_size(family, weights):
+    """The greatest SIZE of a PACK, by counting each member not at all, or once more."""
+    @lru_cache(maxsize=None)
+    def greatest(number, left):
+        if number == len(family[1]):
+            return 0
+        best = greatest(number + 1, left)
+        member = family[1][number]
+        if all(left[place] for place in member):
+            fewer = tuple(weight - (place in member) for place, weight in enumerate(left))
+            best = max(best, 1 + greatest(number, fewer))
+        return best
+    return greatest(0, weights)
+
+
+def is_places(n, thing):
+    return (type(thing) is tuple and all(type(place) is int and 0 <= place < n for place in thing)
+            and list(thing) == sorted(set(thing)))
+
+
+def pair_judged(family, weights, thing):
+    """True, or the word and the number that NoPaper is due with for a PAIR."""
+    if word_of(thing) != ("pair", 3) or not is_places(family[0], thing[1]) or type(thing[2]) is not tuple:
+        return "shape", 0
+    for number, mask in enumerate(masks_of(family)):
+        if not mask & bits(thing[1]):
+            return "member", number
+    due = counts_judged(family, weights, thing[2])
+    if due is not True:
+        return due
+    return True if sum(count for member, count in thing[2]) == price(weights, bits(thing[1])) else ("size", 0)
+
+
+def shared_judged(family, weights, thing):
+    """True, or the word and the number that NoPaper is due with for a SHARED paper."""
+    if word_of(thing) != ("shared", 4) or type(thing[1]) is not int or thing[1] < 1 or type(thing[2]) is not tuple:
+        return "shape", 0
+    bottom, rows, covers = thing[1], thing[2], thing[3]
+    if type(covers) is not tuple or len(covers) != family[0]:
+        return "shape", 0
+    if any(type(cover) is not int or cover < 0 for cover in covers):
+        return "shape", 0
+    due = counts_judged(family, [bottom * weight for weight in weights], rows)
+    if due is not True:
+        return due
+    for number, member in enumerate(family[1]):
+        if sum(covers[place] for place in member) < bottom:
+            return "member", number
+    total = sum(weight * cover for weight, cover in zip(weights, covers))
+    return True if sum(count for member, count in rows) == total else ("number", 0)
+
+
+def shared_made(source, family, weights):
+    """A SHARED paper of a FAMILY that isn't WHOLE, any of several: shares are exchanged till none can grow."""
+    n, members = family[0], list(family[1])
+    source.shuffle(members)
+    # Rows for the places, columns for the members, then for what is left at each place; the last row is what is gained.
+    rows = [[Fraction(place in member) for member in members] + [Fraction(place == own) for own in range(n)]
+            + [Fraction(weights[place])] for place in range(n)]
+    gain = [Fraction(-1)] * len(members) + [Fraction(0)] * (n + 1)
+    basis = [len(members) + place for place in range(n)]
+    while any(worth < 0 for worth in gain[:-1]):
+        column = next(at for at, worth in enumerate(gain[:-1]) if worth < 0)
+        at = min((row for row in range(n) if rows[row][column] > 0),
+                 key=lambda row: (rows[row][-1] / rows[row][column], basis[row]))
+        rows[at] = [worth / rows[at][column] for worth in rows[at]]
+        for row in [*(rows[:at] + rows[at + 1:]), gain]:
+            row[:] = [worth - row[column] * own for worth, own in zip(row, rows[at])]
+        basis[at] = column
+    shares = {members[column]: rows[at][-1] for at, column in enumerate(basis) if column < len(members)}
+    covers = gain[len(members):-1]
+    bottom = lcm(*(worth.denominator for worth in [*shares.values(), *covers]))
+    counts = tuple((member, int(shares[member] * bottom)) for member in family[1] if shares.get(member))
+    return "shared", bottom, counts, tuple(int(cover * bottom) for cover in covers)
+
+
+def scaled(paper, by):
+    """A SHARED paper with all of its numbers so many times as great."""
+    word, bottom, rows, covers = paper
+    rows = tuple((member, count * by) for member, count in rows)
+    return word, bottom * by, rows, tuple(cover * by for cover in covers)
+
+
+def small_weights(source, n, most=12):
+    """WEIGHTS that come to at most so much together."""
+    weights = [0] * n
+    for count in range(source.randrange(most + 1) if n else 0):
+        weights[source.randrange(n)] += 1
+    return tuple(weights)
+
+
+def round_of(k):
+    """The FAMILY of each place with the next one, the last one with the first."""
+    return k, tuple(sorted(tuple(sorted((place, (place + 1) % k))) for place in range(k)))

@@ -9,7 +9,7 @@ from pathlib import Path
 PACKAGE = Path(__file__).resolve().parent.parent / "rivalsets"
 BARRED = re.compile(
     r"\b(type|typing|typing_extensions|enum|Enum|IntEnum|StrEnum|Flag|IntFlag|Generic|Protocol|ABC|ABCMeta|namedtuple"
-    r"|NamedTuple|TypedDict|TYPE_CHECKING|abstractmethod)\b|dataclass|overload|contextmanager|%")
+    r"|NamedTuple|TypedDict|TYPE_CHECKING|abstractmethod)\b|dataclass|overload|contextmanager")
 CALLED = set("len range enumerate zip min max sum abs sorted reversed int str bool bytes list tuple dict set isinstance "
              "ord repr any all divmod ValueError".split())
 
@@ -45,6 +45,12 @@ class Form(unittest.TestCase):
             for line in lines:
                 self.assertRegex(line, r"^[ -~]{0,120}$", path)
                 self.assertIsNone(BARRED.search(line), (path, line))
+
+    def test_no_sign_for_hundredths_in_texts(self):
+        for path, tree in trees():
+            for node in ast.walk(tree):
+                if isinstance(node, ast.Constant) and isinstance(node.value, str):
+                    self.assertNotIn("%", node.value, path)
 
     def test_functions_are_short(self):
         for path, tree in trees():

@@ -3,7 +3,7 @@
 import random
 from fractions import Fraction
 from functools import lru_cache
-from itertools import combinations
+from itertools import combinations, permutations, product
 from math import lcm
 
 
@@ -47,7 +47,7 @@ def other_of(family):
 
 
 def every_family(n):
-    """All FAMILIES of n places (n at most 4)."""
+    """All FAMILIES of n places (n at most 5)."""
     told = [[]]
     for mask in range(1 << n):
         told += [old + [mask] for old in told
@@ -465,3 +465,144 @@ def small_weights(source, n, most=12):
 def round_of(k):
     """The FAMILY of each place with the next one, the last one with the first."""
     return k, tuple(sorted(tuple(sorted((place, (place + 1) % k))) for place in range(k)))
+
+
+PLANE = (7, ((0, 1, 2), (0, 3, 4), (0, 5, 6), (1, 3, 5), (1, 4, 6), (2, 3, 6), (2, 4, 5)))
+
+
+def is_tie_of(many, tie):
+    return (type(tie) is tuple and len(tie) == 2 and all(type(spot) is int for spot in tie)
+            and 0 <= tie[0] < tie[1] < many)
+
+
+def is_web_of(thing):
+    if type(thing) is not tuple or len(thing) != 2 or type(thing[0]) is not int or not 1 <= thing[0] <= 6:
+        return False
+    ties = thing[1]
+    return type(ties) is tuple and len(ties) <= 8 and all(is_tie_of(thing[0], tie) for tie in ties)
+
+
+def ties_join(web, mask, a, b):
+    """Whether one comes from a to b by the ties of the mask, spot by spot."""
+    reached, waiting = {a}, [a]
+    while waiting:
+        spot = waiting.pop()
+        for number, tie in enumerate(web[1]):
+            if mask >> number & 1 and spot in tie:
+                end = tie[0] + tie[1] - spot
+                if end not in reached:
+                    reached.add(end)
+                    waiting.append(end)
+    return b in reached
+
+
+def ways_of(web, a, b):
+    n = len(web[1])
+    return as_family(n, [mask for mask in range(1 << n) if ties_join(web, mask, a, b)])
+
+
+def cuts_of(web, a, b):
+    n = len(web[1])
+    every = (1 << n) - 1
+    return as_family(n, [mask for mask in range(1 << n) if not ties_join(web, every & ~mask, a, b)])
+
+
+def chance_web(source, ties=None):
+    many = source.randrange(1, 7)
+    if many == 1:
+        return many, ()
+    ties = source.randrange(9) if ties is None else ties
+    return many, tuple(tuple(sorted(source.sample(range(many), 2))) for tie in range(ties))
+
+
+def goes_round(parents, place):
+    seen = set()
+    while place != -1:
+        if place in seen:
+            return True
+        seen.add(place)
+        place = parents[place]
+    return False
+
+
+def is_row_up(parents, member):
+    """Whether some order of the member's places has each but the last one's place above next to it."""
+    return bool(member) and any(all(parents[low] == high for low, high in zip(row, row[1:]))
+                                for row in permutations(member))
+
+
+def unlike_judged(named, family):
+    for number, member in enumerate(named[1]):
+        if member not in family[1]:
+            return "lacks", number
+    for number, member in enumerate(family[1]):
+        if member not in named[1]:
+            return "more", number
+    return True
+
+
+def parts_judged(family, side):
+    for number, member in enumerate(family[1]):
+        if len(member) != 2:
+            return "two", number
+        if (member[0] in side) == (member[1] in side):
+            return "side", number
+    return True
+
+
+def tree_judged(family, parents):
+    for place in range(family[0]):
+        if goes_round(parents, place):
+            return "endless", place
+    for number, member in enumerate(family[1]):
+        if not is_row_up(parents, member):
+            return "row", number
+    return True
+
+
+def look_fits(n, thing):
+    word = word_of(thing)
+    if word == ("parts", 2):
+        return is_places(n, thing[1])
+    if word == ("tree", 2):
+        return (type(thing[1]) is tuple and len(thing[1]) == n
+                and all(type(above) is int and -1 <= above < n for above in thing[1]))
+    return (word in [("ways", 4), ("cuts", 4)] and is_web_of(thing[1])
+            and all(is_index(spot, range(thing[1][0])) for spot in thing[2:]))
+
+
+def look_judged(family, thing):
+    """True, or the word and the number that NoPaper is due with for a LOOK."""
+    n = family[0]
+    if not look_fits(n, thing):
+        return "shape", 0
+    if family[1] == ((),):
+        return "whole", 0
+    if thing[0] == "parts":
+        return parts_judged(family, thing[1])
+    if thing[0] == "tree":
+        return tree_judged(family, thing[1])
+    if len(thing[1][1]) != n:
+        return "ties", len(thing[1][1])
+    return unlike_judged((ways_of if thing[0] == "ways" else cuts_of)(*thing[1:]), family)
+
+
+def all_looks(n):
+    """All things that are a LOOK of the sorts "parts" and "tree" by kind."""
+    return [("parts", side) for side in subsets(n)] + [("tree", parents) for parents in product(range(-1, n), repeat=n)]
+
+
+def unlike_families(n):
+    """FAMILIES of n places (n at most 5), one of all that come from one another by other names of the places."""
+    told, seen = [], set()
+    for family in every_family(n):
+        if family not in seen:
+            told.append(family)
+            for order in permutations(range(n)):
+                seen.add(renamed(family, order))
+    return told
+
+
+def renamed(family, order):
+    """The FAMILY with place k called by the k-th of the order."""
+    return family[0], tuple(sorted(tuple(sorted(order[place] for place in member)) for member in family[1]))

@@ -9,7 +9,7 @@ from rivalsets.errors import NoPaper
 from rivalsets.fractions import fraction_of, is_below
 from rivalsets.pairing import pair_told
 from rivalsets.sharechecker import lets_shared
-from tests.reference import (all_packs, bits, chance_weights, every_family, greatest_size, large_families, layer,
+from tests.reference import (PLANE, all_packs, bits, chance_weights, every_family, greatest_size, large_families, layer,
                              least_price, listed, nested, odd_things, price, round_of, said, scaled, shared_judged,
                              shared_made, small_families, small_weights, turned, turned_at_chance)
 
@@ -17,7 +17,6 @@ WORDS = ["shared", "pair", "Shared", ""]
 ROUND = round_of(3)
 EACH = (((0, 1), 1), ((0, 2), 1), ((1, 2), 1))
 HALVES = ("shared", 2, EACH, (1, 1, 1))
-PLANE = (7, ((0, 1, 2), (0, 3, 4), (0, 5, 6), (1, 3, 5), (1, 4, 6), (2, 3, 6), (2, 4, 5)))
 FAN = (4, ((0, 1, 2), (0, 3), (1, 3), (2, 3)))
 NO_WHOLE = [family for family in small_families() + large_families() if family[1] != ((),)]
 

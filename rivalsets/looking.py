@@ -1,14 +1,12 @@
 """What is told of a FAMILY of few places: a LOOK of the sorts "parts" and "tree"."""
 
-from rivalsets.families import whole_family
 from rivalsets.lookchecker import NONE_ABOVE, fault_of_parts, fault_of_tree
 from rivalsets.sets import all_sets
 
 
 def look_told(family):
     """A LOOK of the sorts "parts" and "tree" for a FAMILY; None where there is none."""
-    if family == whole_family(family[0]):
-        return None
+    # Of WHOLE none is found: its member hasn't two places and is no row.
     for side in all_sets(family[0]):
         if fault_of_parts(family, side) is None:
             return "parts", side

@@ -33,5 +33,5 @@ def narrowed(family, places):
 
 
 def called_by(member, places):
-    """A member within some places, each of its places called by how many of these are below it."""
+    """A member within some places, each of its places called by where it stands among these."""
     return tuple([number for number, place in enumerate(places) if place in member])

@@ -606,3 +606,113 @@ def unlike_families(n):
 def renamed(family, order):
     """The FAMILY with place k called by the k-th of the order."""
     return family[0], tuple(sorted(tuple(sorted(order[place] for place in member)) for member in family[1]))
+
+
+BAD_WORDS = ("round", "covers", "fan", "four", "plane")
+
+
+def named(word, k):
+    """The FAMILY of k places that is NAMED so, None where there is none."""
+    if word == "round" and k in (3, 5, 7):
+        return round_of(k)
+    if word == "covers" and k in (5, 7):
+        return other_of(round_of(k))
+    if word == "fan" and k in (4, 5, 6, 7, 8):
+        return as_family(k, [(1 << k - 1) - 1] + [1 << place | 1 << k - 1 for place in range(k - 1)])
+    if word == "four" and k == 6:
+        return as_family(6, [0b010101, 0b101001, 0b100110, 0b011010])
+    return PLANE if word == "plane" and k == 7 else None
+
+
+def all_named():
+    return [(word, k) for word in BAD_WORDS for k in range(10) if named(word, k)]
+
+
+def price_and_pack(word, k):
+    """What is due by weights of 1 each: the PRICE, and the SIZE of a greatest PACK."""
+    if word == "round":
+        return (k + 1) // 2, (k - 1) // 2
+    return (3, 1) if word == "plane" else (2, 1)
+
+
+def small_of(family, out, kept):
+    gone, taken = bits(out), bits(kept)
+    return as_family(family[0], [mask & ~taken for mask in masks_of(family) if not mask & gone])
+
+
+def called_by_order(family, order):
+    """The FAMILY whose place j is the j-th of the order, all places of members being there."""
+    back = {place: number for number, place in enumerate(order)}
+    return len(order), tuple(sorted(tuple(sorted(back[place] for place in member)) for member in family[1]))
+
+
+def bad_judged(family, thing):
+    """True, or the word and the number that NoPaper is due with for a BAD paper."""
+    n = family[0]
+    if type(thing) is not tuple or len(thing) != 4 or type(thing[2]) is not tuple or type(thing[3]) is not str:
+        return "shape", 0
+    out, kept, order, word = thing
+    if not is_places(n, out) or not is_places(n, kept) or not all(is_index(place, range(n)) for place in order):
+        return "shape", 0
+    for place in range(n):
+        if (out + kept + order).count(place) != 1:
+            return "place", place
+    due = named(word, len(order))
+    if due is None:
+        return "word", len(order)
+    return unlike_judged(due, called_by_order(small_of(family, out, kept), order))
+
+
+def splits_of(n):
+    """All (out, kept, rest) of n places."""
+    for states in product(range(3), repeat=n):
+        yield tuple(tuple(place for place in range(n) if states[place] == state) for state in range(3))
+
+
+@lru_cache(maxsize=None)
+def named_anyhow(k):
+    """All FAMILIES of k places that are NAMED ones with their places called anyhow."""
+    return {renamed(named(word, k), order) for word in BAD_WORDS if named(word, k) for order in permutations(range(k))}
+
+
+def some_bad(family):
+    """Whether going through all ways to leave out and keep places finds a NAMED family."""
+    return any(called_by_order(small_of(family, out, kept), rest) in named_anyhow(len(rest))
+               for out, kept, rest in splits_of(family[0]) if len(rest) > 2)
+
+
+def some_look(family):
+    """Whether going through all sides and all parents finds a LOOK."""
+    if family[1] == ((),):
+        return False
+    pairs = all(len(member) == 2 for member in family[1])
+    for look in all_looks(family[0]):
+        if (look[0] == "tree" or pairs) and look_judged(family, look) is True:
+            return True
+    return False
+
+
+@lru_cache(maxsize=None)
+def verdict_word(family):
+    if some_bad(family):
+        return "bad"
+    return "look" if some_look(family) else "open"
+
+
+def bad_made(source, word, k, n):
+    """A FAMILY of n places and a BAD paper for it, by which it is the NAMED one: places are put in anyhow."""
+    spots = source.sample(range(n), n)
+    order, rest = tuple(spots[:k]), spots[k:]
+    cut = source.randrange(len(rest) + 1)
+    out, kept = tuple(sorted(rest[:cut])), tuple(sorted(rest[cut:]))
+    masks = []
+    for member in named(word, k)[1]:
+        core = bits(order[place] for place in member)
+        # With kept places anyhow; and more members with kept places that hold this one.
+        masks.append(core | sum(1 << place for place in kept if source.randrange(2)))
+        if source.randrange(3) == 0:
+            masks.append(core | bits(kept) | 1 << source.choice(order))
+    for place in out:
+        masks += [1 << place | source.randrange(1 << n) for count in range(source.randrange(3))]
+    # A member with a place of out is within none that has no such place: so none of these is lost by it.
+    return as_family(n, masks), (out, kept, order, word)

@@ -10,9 +10,9 @@ from rivalsets.lookchecker import lets_look
 from rivalsets.pairchecker import lets_pair
 from rivalsets.pairing import pair_told
 from rivalsets.webs import cuts_family, ways_family
-from tests.reference import (all_looks, as_family, chance_family, chance_web, cuts_of, every_family, greatest_size, large_families,
-                             layer, least_price, listed, look_judged, nested, odd_things, round_of, said,
-                             small_families, small_weights, turned, turned_at_chance, ways_of)
+from tests.reference import (all_looks, as_family, chance_family, chance_web, cuts_of, every_family, greatest_size,
+                             large_families, layer, least_price, listed, look_judged, nested, odd_things, round_of,
+                             said, small_families, small_weights, turned, turned_at_chance, ways_of)
 
 WORDS = ["parts", "tree", "ways", "cuts", "Parts", ""]
 PATH = (4, ((0, 1), (1, 2), (2, 3)))

@@ -5,18 +5,7 @@ import unittest
 
 from rivalsets.lookchecker import lets_look
 from rivalsets.looking import look_told
-from tests.reference import all_looks, every_family, look_judged, parts_judged, renamed, round_of, unlike_families
-
-
-def some_look(family):
-    """Whether going through all sides and all parents finds a LOOK."""
-    if family[1] == ((),):
-        return False
-    pairs = all(len(member) == 2 for member in family[1])
-    for look in all_looks(family[0]):
-        if (look[0] == "tree" or pairs) and look_judged(family, look) is True:
-            return True
-    return False
+from tests.reference import every_family, look_judged, parts_judged, renamed, round_of, some_look, unlike_families
 
 
 class LookTold(unittest.TestCase):
